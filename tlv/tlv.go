@@ -6,6 +6,7 @@ import (
 	"slices"
 
 	"moneyer/api"
+	"moneyer/octets"
 )
 
 // Record is a value of a type.
@@ -32,19 +33,11 @@ func putNumber(b []byte, x uint64) []byte {
 	case x < markTwo:
 		return append(b, byte(x))
 	case x < 1<<16:
-		return putHighFirst(append(b, markTwo), x, 2)
+		return octets.Append(append(b, markTwo), x, 2)
 	case x < 1<<32:
-		return putHighFirst(append(b, markFour), x, 4)
+		return octets.Append(append(b, markFour), x, 4)
 	}
-	return putHighFirst(append(b, markEight), x, 8)
-}
-
-// putHighFirst is bytes with the lowest n bytes of a number behind them, the highest one first.
-func putHighFirst(b []byte, x uint64, n int) []byte {
-	for i := range n {
-		b = append(b, byte(x>>(8*(n-1-i))))
-	}
-	return b
+	return octets.Append(append(b, markEight), x, 8)
 }
 
 // Read is the number with which bytes begin, and how many bytes it has.
@@ -59,10 +52,7 @@ func Read(b []byte) (uint64, int, api.Errno) {
 	if n == 1 {
 		return uint64(b[0]), 1, api.OK
 	}
-	x := uint64(0)
-	for _, c := range b[1:n] {
-		x = x<<8 | uint64(c)
-	}
+	x := octets.Read(b[1:n])
 	if x < least {
 		return 0, 0, api.ErrForm
 	}
